@@ -1,0 +1,1 @@
+"""Keywise: merging replicas key by key without breaking their rule."""

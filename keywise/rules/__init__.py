@@ -1,0 +1,1 @@
+"""Rows, partial rows, rules and formulas."""
