@@ -3,6 +3,12 @@
 import unittest
 
 from keywise import errors
+from keywise.choices import arrows, choices
+from keywise.lattice import lattice
+from keywise.levels import levels, thresholds
+from keywise.parity import parity
+from keywise.patterns import patterns
+from keywise.policies import policies
 from keywise.rules import formulas, rules
 from tests.support import run_examples
 
@@ -40,13 +46,135 @@ raises InvalidRule
 [True, (0, 0, 1)]
 """
 
+STAGE_3 = """
+>>> [patterns(IMPLY), patterns(ATMOST)]
+[(((0, 1), (1, 0)),), (((0, 1), (1, 1)), ((0, 1), (2, 1)), ((1, 1), (2, 1)))]
+>>> [len(patterns(ONE)), is_pattern(ONE, ((0, 0), (1, 0), (2, 0))), is_pattern(ONE, ((0, 1), (1, 1), (2, 0)))]
+[4, True, False]
+>>> [pattern_within(ONE, ((0, 1), (1, 1), (2, 1))), pattern_within(ONE, ((0, 0), (1, 0)))]
+[((0, 1), (1, 1)), None]
+>>> [pattern_rows(ONE, ((0, 0), (1, 0), (2, 0))), is_pattern_paper(IMPLY, (((0, 1), (1, 0)), ((0, 0), (1, 1))))]
+[((1, 0, 0), (0, 1, 0), (0, 0, 1)), True]
+>>> rule_of_patterns(2, (((0, 1), (1, 0)),)) == IMPLY
+True
+>>> [gives(IMPLY, (((0, 1), (1, 0)),)), gives(IMPLY, ())]
+[True, False]
+"""
+
+STAGE_4 = """
+>>> both, any_of = (0, 0, 0, 1), (0, 1, 1, 1)
+>>> table = Table((both, any_of))
+>>> [table(((0, 1), (1, 1))), table.merged((0, 0), (1, 1)), table[1], table.copied(), table.keeps(IMPLY), str(table)]
+[(0, 1), (0, 1), (0, 1, 1, 1), None, True, 'table 0001 0111']
+>>> sorted(Table((any_of, both)).broken_merge(IMPLY))
+[(0, 0), (1, 1)]
+>>> copy = Copy(3, 2, 1)
+>>> [copy[0], copy(((0, 0), (0, 1), (1, 1))), copy.copied(), copy.on((1,)) == Copy(3, 1, 1), Table.of(copy) == copy]
+[(0, 0, 1, 1, 0, 0, 1, 1), (0, 1), 1, True, True]
+"""
+
+STAGE_5 = """
+>>> [arrows(IMPLY), len(arrows(ATMOST)), len(arrows(ONE))]
+[(((0, 1), (1, 1)), ((1, 0), (0, 0))), 6, 12]
+>>> [arrow_pattern(ONE, (1, 0), (2, 1)), arrow_pattern(ONE, (1, 0), (2, 0)), reached(ATMOST, (0, 1)), reached(ATMOST)]
+[((0, 0), (1, 0), (2, 0)), None, ((0, 1), (1, 0), (2, 0)), ()]
+>>> [components(IMPLY), len(components(ONE))]
+[(((0, 1),), ((1, 0),), ((0, 0),), ((1, 1),)), 1]
+>>> walk(ONE, (0, 1), (0, 0))
+(((0, 1), ((0, 1), (1, 1))), ((1, 0), ((0, 0), (1, 0), (2, 0))), ((2, 1), ((0, 1), (2, 1))), ((0, 0), None))
+>>> [walk(IMPLY, (1, 1), (0, 1)), walk(IMPLY, (1, 1), (1, 1))]
+[None, (((1, 1), None),)]
+"""
+
+STAGE_6 = """
+>>> choice = Choice(2, ((1, 1),))
+>>> [choice(((1, 1), (0, 0))), choice.keeps(IMPLY), choice.functions, wins_of(Copy(2, 2, 1))]
+[(0, 1), True, ((0, 1, 0, 1), (0, 1, 1, 1)), ()]
+>>> [Choice(2, ((0, 1),)).keeps(IMPLY), Choice(2, ((0, 1),)).broken_merge(IMPLY), str(Choice(3, ((0, 1), (2, 0))))]
+[False, ((1, 1), (0, 0)), 'choice of 3 keys: 0=1 2=0']
+>>> [count_choices(IMPLY), count_choices(ATMOST), list(choices(ONE)), is_choice(IMPLY, ((0, 1),))]
+[9, 18, [(), ((0, 0), (0, 1), (1, 0), (1, 1), (2, 0), (2, 1))], False]
+>>> list(choices(IMPLY))[:4]
+[(), ((0, 0),), ((0, 0), (0, 1), (1, 0), (1, 1)), ((0, 0), (0, 1), (1, 1))]
+>>> [least_choice(ATMOST, wanted=((0, 1),)), greatest_choice(ATMOST, unwanted=((0, 0),))]
+[((0, 1), (1, 0), (2, 0)), ((0, 1), (1, 0), (2, 0))]
+>>> [least_choice(ATMOST), least_choice(IMPLY, wanted=((0, 1),), unwanted=((1, 1),))]
+[(), None]
+"""
+
+STAGE_7 = """
+>>> [Thresholds(3, (1, 2, 3)).levels, Thresholds.majority(3).numbers, Thresholds(3, (1, 2, 3)).load(((0, 0), (2, 0)))]
+[((0, 1), (1, 2), (1, 1)), (2, 2, 2), 2]
+>>> list(thresholds(ATMOST, 2))
+[(1, 2, 2), (2, 1, 2), (2, 2, 1), (2, 2, 2)]
+>>> [count_thresholds(IMPLY, 3), count_thresholds(IMPLY, 3, given=((0, 2),)), count_thresholds(ONE, 4)]
+[6, 2, 0]
+>>> heaviest_pattern(ONE, Thresholds.majority(3))
+(((0, 0), (1, 0), (2, 0)), 3)
+>>> [number_range(IMPLY, Thresholds(3, (2, 2)), 0), number_range(IMPLY, Thresholds(3, (2, 2)), 1), number_range(ONE, Thresholds(2, (2, 2, 2)), 0)]
+[(2, 3), (1, 2), None]
+"""
+
+STAGE_8 = """
+>>> [falsity_sum(((2, 5), (2, 5), (2, 5)), ((0, 0), (1, 0), (2, 1))), numbers_for(((0, 1), (1, 2)), 3), numbers_for(((0, 1), (1, 2)), 4)]
+[(7, 5), (1, 2), None]
+>>> [tension(ONE), tension(EVEN), tension(ATMOST)]
+[(6, 5), (3, 2), (0, 1)]
+>>> W = ((((0, 0), (1, 0), (2, 0)), 2), (((0, 1), (1, 1)), 1), (((0, 1), (2, 1)), 1), (((1, 1), (2, 1)), 1))
+>>> is_tension_paper(ONE, ((6, 5), ((2, 5), (2, 5), (2, 5)), W))
+True
+>>> worst_patterns(ONE, ((1, 2), (1, 2), (1, 2)))
+((3, 2), (((0, 0), (1, 0), (2, 0)),))
+>>> [least_replicas(ATMOST), least_replicas(ONE)]
+[2, None]
+>>> [is_order_paper(IMPLY, ("order", ((0, 1), (1, 0)))), is_order_paper(IMPLY, ("order", ((0, 0), (1, 1)))), order_paper(ONE)[0]]
+[True, False, 'cycle']
+>>> order_levels(((0, 1), (1, 0)))
+((8, 9), (1, 3))
+"""
+
+STAGE_9 = """
+>>> policy = Sides(3, (0, 1))
+>>> [policy(((0, 1), (1, 0), (1, 0))), policy.keeps(IMPLY), Sides(2, (1, 0)).keeps(IMPLY), str(policy)]
+[(0, 1), True, False, 'sides of 3: min max']
+>>> [Sides(2, (0, 1)) == Choice(2, ((0, 0), (1, 1))), Sides(2, (0, 1)) == policy]
+[True, False]
+>>> [sides_paper(ONE)[0], is_sides_paper(ATMOST, ("sides", (0, 0, 1))), is_sides_paper(ATMOST, ("sides", (0, 1, 1)))]
+['walk', True, False]
+>>> [list(all_sides(ATMOST)), count_sides(ONE), forced_sides(IMPLY), forced_sides(ONE)]
+[[(0, 0, 0), (0, 0, 1), (0, 1, 0), (1, 0, 0)], 0, {}, None]
+>>> forced_sides(rule_of_patterns(3, (((0, 0), (1, 0)), ((0, 0), (2, 0)), ((0, 1), (1, 1), (2, 1)))))
+{0: 1, 1: 0, 2: 0}
+>>> [fold(Sides(2, (0, 1)), ((1, 0), (1, 1), (1, 0))), fold(Copy(2, 2, 1), ((1, 0), (0, 1)))]
+[(1, 1), (0, 1)]
+"""
+
+STAGE_10 = """
+>>> policy = Parity(3, 3)
+>>> [policy(((0, 1, 1), (1, 0, 1), (0, 0, 0))), policy.keeps(EVEN), policy.keeps(ATMOST), str(policy)]
+[(1, 1, 0), True, False, 'parity of 3 for 3 keys']
+>>> [list(solutions(2, (((0, 1), 1),))), reduced(3, (((0, 1), 1), ((0, 2), 0), ((1, 2), 1))), reduced(2, (((0,), 1), ((0,), 0)))]
+[[(0, 1), (1, 0)], (((0, 2), 0), ((1, 2), 1)), None]
+>>> [row_sum(3, (0, 0, 1), (0, 1, 0), (1, 0, 0)), follows(3, (((0, 1), 1), ((0, 2), 0)), ((1, 2), 1))]
+[(1, 1, 1), True]
+>>> [equations(EVEN), equations(ONE), parity_paper(EVEN)[0], parity_paper(ONE)[0]]
+[(((0, 1, 2), 0),), None, 'equations', 'rows']
+>>> [is_parity_paper(EVEN, ("equations", (((0, 1, 2), 0), ((0, 1, 2), 0)))), is_parity_paper(ONE, ("rows", ((1, 0, 0), (0, 1, 0), (0, 0, 1))))]
+[True, True]
+"""
+
+MODULES = (errors, rules, formulas, patterns, policies, arrows, choices, thresholds, levels, lattice, parity)
+TEXTS = (
+    RULES, STAGE_1, STAGE_2, STAGE_3, STAGE_4, STAGE_5, STAGE_6, STAGE_7, STAGE_8, STAGE_9, STAGE_10,
+)
+
 
 class Examples(unittest.TestCase):
     def test_all_stages(self):
         names = {}
-        for module in (errors, rules, formulas):
+        for module in MODULES:
             names.update(vars(module))
-        for text in (RULES, STAGE_1, STAGE_2):
+        for text in TEXTS:
             run_examples(self, text, names)
 
 

@@ -33,6 +33,7 @@ UNUSED = set("""
     copyright credits delattr dir eval exec exit gc globals help id importlib license locals methodcaller os quit vars
     sys type typing enum Enum namedtuple dataclass overload contextmanager abstractmethod Protocol Flag ABC Generic
 """.split())
+LIBRARY = {"math": ("gcd", "lcm", "isqrt", "comb", "perm", "factorial")}
 STATEMENTS = (
     ast.Assign, ast.AugAssign, ast.If, ast.While, ast.For, ast.Return, ast.Break, ast.Continue, ast.Pass, ast.Raise,
     ast.Assert, ast.Delete, ast.Nonlocal, ast.Try, ast.Expr, ast.FunctionDef, ast.ClassDef, ast.ImportFrom,
@@ -124,7 +125,7 @@ class Language(unittest.TestCase):
 
     def test_imports(self):
         """L2, L16"""
-        names = {module_name(path): defined(tree) for path, tree in self.trees.items()}
+        names = {**LIBRARY, **{module_name(path): defined(tree) for path, tree in self.trees.items()}}
         leads = {}
         for path, tree in self.trees.items():
             for node in ast.walk(tree):
@@ -136,11 +137,16 @@ class Language(unittest.TestCase):
                         self.assertIsNone(alias.asname, path)
                         self.assertIn(alias.name, names.get(node.module, ()), path)
                     leads.setdefault(module_name(path), set()).add(node.module)
-        done = set()
+        done = set(LIBRARY)
         while len(done) < len(names):
             free = [name for name in names if name not in done and leads.get(name, set()) <= done]
             self.assertTrue(free, "modules import one another")
             done.update(free)
+
+    def test_all_imports_are_used(self):
+        for path, tree in self.trees.items():
+            used = {node.id for node in ast.walk(tree) if isinstance(node, ast.Name)}
+            self.assertEqual([name for name in imported(tree) if name not in used], [], path)
 
     def test_module_level(self):
         """L3, L15, L16"""
@@ -243,6 +249,7 @@ class Language(unittest.TestCase):
             ]
             self.assertEqual(len(names), len(set(names)), where)
             self.assertFalse(set(names) & set(assigned), where)
+            self.assertTrue("__iter__" in names or "__getitem__" not in names, where)
 
     def test_names(self):
         """L8, L12, L15, L17"""
@@ -257,12 +264,16 @@ class Language(unittest.TestCase):
                     self.assertIn(node.id, BUILTINS, f"{path}:{node.lineno}")
         for where, node in self.nodes(ast.Name, ast.Attribute, ast.arg, ast.keyword):
             name = getattr(node, "id", None) or getattr(node, "attr", None) or getattr(node, "arg", None)
+            if name == "__init__" and ast.unparse(node) == "super().__init__":
+                continue
             self.assertRegex(name, "^(_?[A-Za-z][A-Za-z0-9_]*|_)$", where)
             self.assertFalse(name in UNUSED and not isinstance(node, ast.Attribute), where)
             self.assertNotRegex(name, "^_(wall|pe_|dcw_|enum_|cm_|twin_re_|lay_|law_|stub_|sre)", where)
 
     def test_words(self):
-        """L17, L27"""
+        """L5, L17, L27"""
+        for path, text in self.sources.items():
+            self.assertNotRegex(text, r"\(type\)|Meta|metaclass=|dataclass|overload|contextmanager", path)
         for where, node in self.nodes(ast.Constant):
             if isinstance(node.value, str) and not re.search(r"\s", node.value):
                 self.assertNotIn(node.value, UNUSED - {"open", "type", "id", "input"}, where)

@@ -1,7 +1,7 @@
 """Formulas, which say something about the bits of a row."""
 
-from keywise.errors import InvalidFormula, InvalidNumber, InvalidPartial, InvalidRow, ParseError, TooLarge
-from keywise.rules.rules import MAX_KEYS, check_rule, check_size, is_between, is_partial, is_row_of_some_size
+from keywise.errors import InvalidFormula, InvalidPartial, InvalidRow, ParseError, TooLarge
+from keywise.rules.rules import MAX_KEYS, check_between, check_rule, check_size, is_partial, is_row_of_some_size
 from keywise.rules.rules import rule_where
 
 MAX_PARTS = 60
@@ -27,15 +27,13 @@ class Formula:
     @staticmethod
     def key(number):
         """Return the formula that holds for a row if the key with this number is 1."""
-        if not is_between(0, MAX_KEYS - 1, number):
-            raise InvalidNumber(number)
+        check_between(0, MAX_KEYS - 1, number)
         return made("key", number, ())
 
     @staticmethod
     def at_least(count, *formulas):
         """Return the formula that holds if at least so many of the formulas hold."""
-        if not is_between(0, MAX_COUNT, count):
-            raise InvalidNumber(count)
+        check_between(0, MAX_COUNT, count)
         for formula in formulas:
             check_formula(formula)
         return made("at least", count, formulas)

@@ -31,6 +31,11 @@ def is_literal(size, value):
     return is_between(0, size - 1, key) and is_between(0, 1, bit)
 
 
+def are_literals(size, value):
+    """Return whether the value is a tuple of literals of the size, in any order and perhaps with repeats."""
+    return isinstance(value, tuple) and all([is_literal(size, literal) for literal in value])
+
+
 def is_row(size, value):
     """Return whether the value is a row of the size."""
     check_size(size)
@@ -47,11 +52,7 @@ def is_row_of_some_size(value):
 def is_partial(size, value):
     """Return whether the value is a partial row of the size."""
     check_size(size)
-    if not isinstance(value, tuple):
-        return False
-    if not all([is_literal(size, literal) for literal in value]):
-        return False
-    return ascend([literal[0] for literal in value])
+    return are_literals(size, value) and ascend([literal[0] for literal in value])
 
 
 def is_rule(value):
@@ -82,10 +83,25 @@ def contains(row, partial):
     return all([row[key] == bit for key, bit in partial])
 
 
+def row_number(row):
+    """Return the number in which bit k, counted from the lowest one, is the bit of key k."""
+    return sum([bit << key for key, bit in enumerate(row)])
+
+
+def check_between(least, most, value):
+    """Raise the error for a number that is not an integer from least to most."""
+    if not is_between(least, most, value):
+        raise InvalidNumber(value)
+
+
 def check_size(size):
     """Raise the error for a size that is none."""
-    if not is_size(size):
-        raise InvalidNumber(size)
+    check_between(1, MAX_KEYS, size)
+
+
+def check_key(size, key):
+    """Raise the error for a key of the size that is none."""
+    check_between(0, size - 1, key)
 
 
 def check_partial(size, partial):
@@ -127,12 +143,17 @@ def rule_where(size, test):
     return rule_with(size, [row for row in all_rows(size) if test(row)])
 
 
+def is_one_of(size, rows, value):
+    """Return whether the value is one of these rows of the size."""
+    # (True, 0) equals (1, 0), so being among the rows is not enough.
+    return is_row(size, value) and value in rows
+
+
 def is_valid(rule, value):
     """Return whether the value is a valid row of the rule."""
     check_rule(rule)
     size, rows = rule
-    # (True, 0) equals (1, 0), so being among the rows is not enough.
-    return is_row(size, value) and value in rows
+    return is_one_of(size, rows, value)
 
 
 def rows_with(rule, partial):

@@ -1,0 +1,1 @@
+"""Arrows between literals, and the two-replica policies that follow from them."""

@@ -1,0 +1,1 @@
+"""Minimum or maximum for each key."""

@@ -1,0 +1,1 @@
+"""Threshold policies, and the levels that they come from."""

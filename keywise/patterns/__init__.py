@@ -1,0 +1,1 @@
+"""The patterns that a rule forbids."""

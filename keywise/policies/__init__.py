@@ -1,0 +1,1 @@
+"""Policies, which merge the rows of several replicas key by key."""
