@@ -7,6 +7,7 @@ from itertools import product
 from keywise.choices.choices import Choice
 from keywise.lattice.lattice import Sides
 from keywise.levels.thresholds import Thresholds
+from keywise.parity.parity import Parity
 from keywise.policies.policies import Copy, Table
 from keywise.rules.formulas import Formula
 from keywise.rules.rules import all_rows
@@ -163,7 +164,37 @@ def run_examples(case, text, names):
             if expected is None:
                 exec(source, names)
             elif expected.startswith("raises "):
-                with case.assertRaises(names[expected[7:].split("(")[0]]):
+                with case.assertRaises(names[expected[7:].split("(")[0]]) as caught:
                     eval(source, names)
+                told = ", ".join(f"{name}={value!r}" for name, value in vars(caught.exception).items())
+                case.assertEqual(expected[7:].partition("(")[2].removesuffix(")") or told, told)
             else:
                 case.assertEqual(repr(eval(source, names)), expected)
+
+
+def random_function(chance, replicas):
+    return (0,) + tuple(chance.randrange(2) for _ in range(2 ** replicas - 2)) + (1,)
+
+
+def policies_of(size, chance, replicas=(2, 3, 4, 5, 6)):
+    """Return a policy of each class for this size, and a Table that copies a replica."""
+    n = chance.choice(replicas)
+    literals = [(key, bit) for key in range(size) for bit in (0, 1)]
+    return [
+        Table(tuple(random_function(chance, n) for _ in range(size))),
+        Copy(n, size, chance.randrange(n)),
+        Table.of(Copy(n, size, chance.randrange(n))),
+        Choice(size, tuple(sorted(chance.sample(literals, chance.randrange(len(literals) + 1))))),
+        Thresholds(n, tuple(chance.randrange(1, n + 1) for _ in range(size))),
+        Sides(n, tuple(chance.randrange(2) for _ in range(size))),
+        Parity(chance.choice((3, 5)), size),
+    ]
+
+
+def rule_with_rows(size, many, seed):
+    """Return a rule of the size with exactly so many rows."""
+    chance = random.Random(seed)
+    while True:
+        valid = tuple(sorted(chance.sample(brute_rows(size), many)))
+        if all({row[key] for row in valid} == {0, 1} for key in range(size)):
+            return (size, valid)

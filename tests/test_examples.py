@@ -1,15 +1,20 @@
 """The examples of the document, word for word."""
 
 import unittest
+from pathlib import Path
 
 from keywise import errors
 from keywise.choices import arrows, choices
+from keywise.decide import decide
+from keywise.envelopes import envelopes
 from keywise.lattice import lattice
 from keywise.levels import levels, thresholds
+from keywise.operations import operations
 from keywise.parity import parity
 from keywise.patterns import patterns
 from keywise.policies import policies
 from keywise.rules import formulas, rules
+from keywise.store import store
 from tests.support import run_examples
 
 RULES = """
@@ -163,19 +168,96 @@ STAGE_10 = """
 [True, True]
 """
 
-MODULES = (errors, rules, formulas, patterns, policies, arrows, choices, thresholds, levels, lattice, parity)
+STAGE_11 = r"""
+>>> [decision(IMPLY)[0], decision(EVEN)[0], decision(ONE)[0]]
+['policy', 'policy', 'obstruction']
+>>> [is_decision(IMPLY, ("policy", Sides(2, (0, 0)))), is_decision(IMPLY, ("policy", Copy(2, 2, 0))), is_decision(EVEN, ("policy", Parity(3, 3)))]
+[True, False, True]
+>>> [judged(ONE, Copy(4, 3, 2)), judged(ATMOST, Sides(2, (0, 0, 0))), judged(ONE, Thresholds(3, (2, 2, 2)))[0]]
+[('copies', 2), ('keeps',), 'breaks']
+>>> is_judgement(ONE, Thresholds(3, (2, 2, 2)), ("breaks", ((1, 0, 0), (0, 1, 0), (0, 0, 1))))
+True
+>>> copied_replica(ONE, Copy(2, 3, 1))
+1
+>>> copied_replica(ONE, Sides(2, (0, 0, 0)))
+raises Broken
+"""
+
+STAGE_12 = r"""
+>>> least = Sides(2, (0, 0, 0))
+>>> [envelope(ONE, least) == ATMOST, envelope(ONE) == ONE, envelope_of(ONE, (Parity(3, 3),))[1]]
+[True, True, ((0, 0, 1), (0, 1, 0), (1, 0, 0), (1, 1, 1))]
+>>> len(envelope(ONE, least, Parity(3, 3))[1])
+8
+>>> list(rounds(ONE, (Sides(2, (0, 0, 0)), Parity(3, 3))))
+[((0, 0, 0), (1, 1, 1)), ((0, 1, 1), (1, 0, 1), (1, 1, 0))]
+>>> [membership(ONE, (), (0, 0, 1)), membership(ONE, (least,), (1, 1, 0))[0]]
+[('derived', ()), 'barrier']
+>>> is_membership(ONE, (least,), (1, 1, 0), ("barrier", ATMOST))
+True
+>>> [is_derivation(ONE, (), (0, 0, 1), ()), is_derivation(ONE, (), (1, 1, 1), ())]
+[True, False]
+>>> is_derivation(ONE, (Parity(3, 3),), (1, 1, 1), (((1, 1, 1), 0, ((0, 0, 1), (0, 1, 0), (1, 0, 0))),))
+True
+>>> thinned(ATMOST, (Sides(2, (0, 0, 0)),)) == ONE
+True
+"""
+
+STAGE_13 = r"""
+>>> [fixed(ATMOST, 0, 0), joined(EVEN, 0, 1)]
+[((2, ((0, 0), (0, 1), (1, 0))), (1, 2), {0: 0}), ((1, ((0,), (1,))), (0,), {2: 0})]
+>>> both(ATMOST, turned(ATMOST, 0, 1, 2))
+raises InvalidOperation
+>>> fixed(ATMOST, 0, 1)
+raises InvalidOperation
+>>> [hidden(ONE, 2), turned(IMPLY, 1), rearranged(IMPLY, (1, 0))]
+[(2, ((0, 0), (0, 1), (1, 0))), (2, ((0, 0), (0, 1), (1, 0))), (2, ((0, 0), (1, 0), (1, 1)))]
+>>> beside((1, ((0,), (1,))), IMPLY)
+(3, ((0, 0, 0), (0, 0, 1), (0, 1, 1), (1, 0, 0), (1, 0, 1), (1, 1, 1)))
+>>> [turned_policy(Sides(2, (0, 0)), 1) == Sides(2, (0, 1)), beside_policy(Copy(2, 1, 0), Copy(2, 2, 1)).copied()]
+[True, None]
+>>> [groups(ONE), groups(beside((1, ((0,), (1,))), IMPLY))]
+[((0, 1, 2),), ((0,), (1, 2))]
+"""
+
+STAGE_14 = r"""
+>>> store = Store(IMPLY, Sides(2, (0, 0)), (1, 1))
+>>> [store.write(0, (0, 1)), store.shown(0), store.shown(1), store.versions, store.agreed]
+[1, (0, 1), (1, 1), (1, 0), False]
+>>> message = store.outgoing(0)
+>>> [message, store.deliver(1, message), store.deliver(1, message), store.shown(1)]
+[((1, (0, 1)), (0, (1, 1))), (0,), (), (0, 1)]
+>>> store.put(0, (1, 0), (0, 1))
+raises Refused(pattern=((0, 1), (1, 0)))
+>>> [store.undo(many=3), store.shown(1), store.redo(), store.shown(0), len(store)]
+[0, (1, 1), 1, (0, 1), 1]
+"""
+
+MODULES = (
+    errors, rules, formulas, patterns, policies, arrows, choices, thresholds, levels, lattice, parity, decide, envelopes,
+    operations, store,
+)
 TEXTS = (
-    RULES, STAGE_1, STAGE_2, STAGE_3, STAGE_4, STAGE_5, STAGE_6, STAGE_7, STAGE_8, STAGE_9, STAGE_10,
+    STAGE_1, STAGE_2, STAGE_3, STAGE_4, STAGE_5, STAGE_6, STAGE_7, STAGE_8, STAGE_9, STAGE_10, STAGE_11, STAGE_12,
+    STAGE_13, STAGE_14,
 )
 
 
 class Examples(unittest.TestCase):
     def test_all_stages(self):
-        names = {}
-        for module in MODULES:
-            names.update(vars(module))
         for text in TEXTS:
-            run_examples(self, text, names)
+            # The examples of a stage use the rules and what they name themselves, but not the names of other stages.
+            names = {}
+            for module in MODULES:
+                names.update(vars(module))
+            run_examples(self, RULES.rstrip() + text, names)
+
+    def test_they_are_those_of_the_document(self):
+        document = Path(__file__).resolve().parent.parent.parent / "shared" / "DOC.md"
+        if document.is_file():
+            lines = set(document.read_text(encoding="utf-8").split("\n"))
+            for line in "".join((RULES,) + TEXTS).strip().split("\n"):
+                self.assertIn(line, lines)
 
 
 if __name__ == "__main__":

@@ -28,8 +28,16 @@ FUNCTIONS = {
     "parity.parity": """row_sum(size, *rows) is_equations(size, value) solutions(size, equations)
         reduced(size, equations) follows(size, equations, equation) equations(rule) parity_paper(rule)
         is_parity_paper(rule, value)""",
+    "decide.decide": """decision(rule) is_decision(rule, value) judged(rule, policy) is_judgement(rule, policy, value)
+        copied_replica(rule, policy)""",
+    "envelopes.envelopes": """envelope(rule, *policies) envelope_of(rule, policies) rounds(rule, policies)
+        membership(rule, policies, row) is_membership(rule, policies, row, value)
+        is_derivation(rule, policies, row, value) thinned(rule, policies)""",
+    "operations.operations": """fixed(rule, key, bit) joined(rule, first, second) both(first, second)
+        hidden(rule, *keys) turned(rule, *keys) rearranged(rule, keys) beside(first, second)
+        turned_policy(policy, *keys) beside_policy(first, second) groups(rule)""",
 }
-GENERATORS = ("all_rows", "rows_with", "choices", "thresholds", "all_sides", "solutions")
+GENERATORS = ("all_rows", "rows_with", "choices", "thresholds", "all_sides", "solutions", "rounds", "history")
 CLASSES = {
     "policies.policies": {
         "Policy": """bit(self, key, bits) __call__(self, rows) merged(self, *rows) copied(self) on(self, keys)
@@ -45,7 +53,15 @@ CLASSES = {
     },
     "lattice.lattice": {"Sides": "__init__(self, replicas, sides) sides __str__(self)"},
     "parity.parity": {"Parity": "__init__(self, replicas, size) __str__(self)"},
+    "store.store": {
+        "Store": """__init__(self, rule, policy, first) rule policy log versions agreed own(self, replica)
+            shown(self, replica) known(self, replica) outgoing(self, replica) is_message(self, value)
+            history(self, replica) __len__(self) __str__(self) __contains__ __eq__ write(self, replica, row)
+            put(self, replica, *literals) deliver(self, replica, message) exchange(self, *replicas)
+            apply_all(self, *operations) undo(self, *, many=1) redo(self, *, many=1)""",
+    },
 }
+ALONE = ("Policy", "Store")
 
 
 def listed(text):
@@ -77,13 +93,14 @@ class Interface(unittest.TestCase):
             for class_name, text in classes.items():
                 kind = vars(self.module(name))[class_name]
                 self.assertEqual((kind.__module__, kind.__name__), ("keywise." + name, class_name))
-                self.assertEqual(kind.__bases__, (object,) if kind is Policy else (Policy,))
+                self.assertEqual(kind.__bases__, (object,) if class_name in ALONE else (Policy,))
                 for entry in listed(text):
                     found = vars(kind)[entry.split("(")[0]]
                     if isinstance(found, classmethod):
                         found = found.__func__
                     if "(" in entry:
                         self.assertEqual(found.__name__ + str(inspect.signature(found)), entry)
+                        self.assertIs(inspect.isgeneratorfunction(found), found.__name__ in GENERATORS, entry)
                     elif not entry.startswith("__"):
                         self.assertIsInstance(found, property)
                         self.assertIsNone(found.fset)

@@ -13,15 +13,11 @@ from keywise.policies import policies
 from keywise.policies.policies import Copy, Policy, Table
 from tests import brute
 from tests.support import ATMOST, EVEN, IMPLY, JUNK, NO_SIZES, ONE, POLICIES
-from tests.support import brute_rows, brute_rules, check_errors, mutants, outcome, sample_rules
+from tests.support import brute_rows, brute_rules, check_errors, mutants, outcome, random_function, sample_rules
 from tests.test_rules import FREE_7, NO_RULES
 
 AND, OR, FIRST, LAST = (0, 0, 0, 1), (0, 1, 1, 1), (0, 0, 1, 1), (0, 1, 0, 1)
 NO_NUMBERS = (-1, True, False, None, "1", (), (1,), [1], {1: 1}, 10 ** 39, Copy(2, 2, 0))
-
-
-def random_function(chance, replicas):
-    return (0,) + tuple(chance.randrange(2) for _ in range(2 ** replicas - 2)) + (1,)
 
 
 def random_tables(many, seed, replicas=(2, 3, 4, 5, 6), sizes=(1, 2, 3, 4, 5, 6, 7)):

@@ -1,7 +1,9 @@
 """Policies: the class of all of them, tables of functions, and copies of a replica."""
 
 from keywise.errors import InvalidNumber, InvalidPolicy, InvalidRow, InvalidRule, TooLarge
+from keywise.policies.merges import merges_into, set_of
 from keywise.rules.rules import check_between, check_key, check_rule, check_size, is_between, is_row, is_size
+from keywise.rules.rules import row_number, row_with
 
 MAX_REPLICAS = 6
 MAX_MERGES = 20000
@@ -97,14 +99,11 @@ class Policy:
 
     def _broken_rows(self, rule):
         """Return a broken merge, or None. This goes through all merges; where more is known, there are faster ways."""
-        _, rows = rule
-        # What comes of the rows of the first replicas is the functions that they leave to the other ones.
-        left = {self._functions: ()}
-        for _ in range(self.replicas):
-            left = {rest(functions, row): begun + (row,) for functions, begun in left.items() for row in rows}
-        for functions, merge in left.items():
-            if tuple([function[0] for function in functions]) not in rows:
-                return merge
+        numbers = [row_number(row) for row in rule[1]]
+        all_numbers = (1 << (1 << self.size)) - 1
+        broken = merges_into(self._functions, [numbers] * self.replicas, all_numbers & ~set_of(numbers))
+        for rows in broken.values():
+            return tuple([row_with(self.size, number) for number in rows])
         return None
 
 
@@ -158,6 +157,13 @@ def check_policy(policy):
     """Raise the error for a policy that is none."""
     if not isinstance(policy, Policy):
         raise InvalidPolicy("not a policy")
+
+
+def check_policy_of(size, policy):
+    """Raise the error for a policy of the size that is none."""
+    check_policy(policy)
+    if policy.size != size:
+        raise InvalidPolicy(f"not a policy of the size {size}")
 
 
 def check_odd_replicas(replicas):
@@ -225,14 +231,6 @@ def result(function, bits):
     for bit in bits:
         at = 2 * at + bit
     return function[at]
-
-
-def rest(functions, row):
-    """Return the functions of the bits of the other replicas that are left if replica 0 has this row."""
-    halves = [len(function) // 2 for function in functions]
-    return tuple([
-        function[half:] if bit == 1 else function[:half] for function, half, bit in zip(functions, halves, row)
-    ])
 
 
 def words(functions):

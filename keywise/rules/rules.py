@@ -88,6 +88,11 @@ def row_number(row):
     return sum([bit << key for key, bit in enumerate(row)])
 
 
+def row_with(size, number):
+    """Return the row of the size with this number."""
+    return tuple([(number >> key) & 1 for key in range(size)])
+
+
 def check_between(least, most, value):
     """Raise the error for a number that is not an integer from least to most."""
     if not is_between(least, most, value):

@@ -1,0 +1,1 @@
+"""Whether some policy keeps a rule without copying a replica."""

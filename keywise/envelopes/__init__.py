@@ -1,0 +1,1 @@
+"""The least rules that policies keep."""

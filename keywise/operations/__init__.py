@@ -1,0 +1,1 @@
+"""Changed rules and changed policies."""

@@ -1,0 +1,1 @@
+"""Stores of replicas that exchange messages, and forecasts of what they can show."""
