@@ -14,7 +14,9 @@ from keywise.parity import parity
 from keywise.patterns import patterns
 from keywise.policies import policies
 from keywise.rules import formulas, rules
-from keywise.store import store
+from keywise.store import forecasts, store
+from keywise.text import formats, shell
+from keywise.workspace import workspace
 from tests.support import run_examples
 
 RULES = """
@@ -233,13 +235,62 @@ raises Refused(pattern=((0, 1), (1, 0)))
 [0, (1, 1), 1, (0, 1), 1]
 """
 
+STAGE_15 = r"""
+>>> least = Sides(3, (0, 0, 0))
+>>> known = ((0, 0, 1), None, None)
+>>> [shown_rows(ATMOST, least, known), settled(ATMOST, least, known), open_replicas(ATMOST, least, known, 2)]
+[((0, 0, 0), (0, 0, 1)), {0: 0, 1: 0}, (1, 2)]
+>>> [completion(ATMOST, least, known, (0, 0, 1)), completion(ATMOST, least, known, (1, 0, 0))]
+[((0, 0, 1), (0, 0, 1), (0, 0, 1)), None]
+>>> majority = Thresholds(3, (2, 2))
+>>> [settled(IMPLY, majority, ((1, 1), (1, 1), None)), open_replicas(IMPLY, majority, ((1, 1), (0, 0), None), 0)]
+[{0: 1, 1: 1}, (2,)]
+"""
+
+STAGE_16 = r"""
+>>> space = Workspace(ATMOST, least=Sides(2, (0, 0, 0)), mine=Copy(2, 3, 1))
+>>> [space.forbid(((0, 0), (1, 0), (2, 0))), space.rule == ONE, space.standing("mine"), space.decision()[0]]
+[(('least', 'keeps', 'breaks'),), True, ('copies', 1), 'obstruction']
+>>> [space.undo(), space.decision()[0], space.computed, str(space)]
+[(('least', 'breaks', 'keeps'),), 'policy', 2, '3 keys, 4 rows, 3 patterns']
+"""
+
+STAGE_17 = r"""
+>>> [format_row((0, 1, 0)), format_rule(IMPLY), format_partial(3, ((0, 1), (2, 0))), format_partial(3, ()), format_equations(3, (((0, 1, 2), 0),))]
+['010', '00 01 11', '0=1 2=0', 'none', '0+1+2=0']
+>>> [parse_rule("001 010 100") == ONE, parse_equations(2, "0+1=1, 1=0"), parse_partial(3, "2=1")]
+[True, (((0, 1), 1), ((1,), 0)), ((2, 1),)]
+>>> parse_rule("01 00 11")
+raises ParseError
+>>> [format_fraction((-3, 2)), format_fraction((2, 1)), parse_fraction("6/5"), format_walk(IMPLY, walk(IMPLY, (0, 1), (1, 1)))]
+['-3/2', '2', (6, 5), '0=1 -> 1=1']
+>>> [parse_policy("sides of 2: min max max") == Sides(2, (0, 1, 1)), parse_policy("table 0001 0111") == Table(((0, 0, 0, 1), (0, 1, 1, 1)))]
+[True, True]
+>>> pattern_table(ONE)
+'  0 3  0=0 1=0 2=0\n  1 2  0=1 1=1\n  2 2  0=1 2=1\n  3 2  1=1 2=1\ntension 6/5'
+"""
+
+STAGE_18 = r"""
+>>> shell = Shell(ATMOST)
+>>> list(shell.answers("watch least sides of 2: min min min", "forbid 0=0 1=0 2=0", "patterns", "undo 1", "rows 0=1"))
+['keeps', 'least keeps breaks', '0=0 1=0 2=0; 0=1 1=1; 0=1 2=1; 1=1 2=1', 'least breaks keeps', '100']
+>>> list(shell.answers("open 001 sides of 2: min min min", "send 0", "write 0 000", "deliver 0 1", "exchange 0 1", "settled 1 0"))
+['ok', '0', '000', 'none', '000', '0=0 1=0 2=0']
+>>> [shell.run("status"), len(shell), "write 0" in shell, "writes" in shell]
+['3 keys, 4 rows, 3 patterns; store of 2 replicas, 3 operations', 12, True, False]
+>>> shell.run("put 0 0=1 1=1")
+raises Refused(pattern=((0, 1), (1, 1)))
+>>> shell.run("show  0")
+raises InvalidCommand
+"""
+
 MODULES = (
     errors, rules, formulas, patterns, policies, arrows, choices, thresholds, levels, lattice, parity, decide, envelopes,
-    operations, store,
+    operations, store, forecasts, workspace, formats, shell,
 )
 TEXTS = (
     STAGE_1, STAGE_2, STAGE_3, STAGE_4, STAGE_5, STAGE_6, STAGE_7, STAGE_8, STAGE_9, STAGE_10, STAGE_11, STAGE_12,
-    STAGE_13, STAGE_14,
+    STAGE_13, STAGE_14, STAGE_15, STAGE_16, STAGE_17, STAGE_18,
 )
 
 

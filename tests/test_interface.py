@@ -36,8 +36,15 @@ FUNCTIONS = {
     "operations.operations": """fixed(rule, key, bit) joined(rule, first, second) both(first, second)
         hidden(rule, *keys) turned(rule, *keys) rearranged(rule, keys) beside(first, second)
         turned_policy(policy, *keys) beside_policy(first, second) groups(rule)""",
+    "store.forecasts": """shown_rows(rule, policy, known) settled(rule, policy, known)
+        open_replicas(rule, policy, known, key) open_pair(rule, policy, known, key, replica)
+        completion(rule, policy, known, row) is_completion(rule, policy, known, row, value)
+        outlook(store, replica, *sealed)""",
+    "text.formats": """format_row(row) parse_row(text) format_rule(rule) parse_rule(text) format_partial(size, partial)
+        parse_partial(size, text) format_equations(size, equations) parse_equations(size, text)
+        format_fraction(fraction) parse_fraction(text) format_walk(rule, walk) parse_policy(text) pattern_table(rule)""",
 }
-GENERATORS = ("all_rows", "rows_with", "choices", "thresholds", "all_sides", "solutions", "rounds", "history")
+GENERATORS = ("all_rows", "rows_with", "choices", "thresholds", "all_sides", "solutions", "rounds", "history", "valid_rows", "answers")
 CLASSES = {
     "policies.policies": {
         "Policy": """bit(self, key, bits) __call__(self, rows) merged(self, *rows) copied(self) on(self, keys)
@@ -60,8 +67,19 @@ CLASSES = {
             put(self, replica, *literals) deliver(self, replica, message) exchange(self, *replicas)
             apply_all(self, *operations) undo(self, *, many=1) redo(self, *, many=1)""",
     },
+    "workspace.workspace": {
+        "Workspace": """__init__(self, rule, **policies) rule patterns policies log computed valid_rows(self, partial=())
+            __len__(self) __str__(self) __contains__ __eq__ forbid(self, partial) allow(self, partial)
+            replace(self, rule) apply(self, *edits) undo(self, *, many=1) redo(self, *, many=1)
+            watch(self, name, policy) unwatch(self, name) standing(self, name) is_standing(self, name, value)
+            decision(self)""",
+    },
+    "text.shell": {
+        "Shell": """__init__(self, rule) run(self, line) answers(self, *lines) workspace(self) store(self)
+            __len__(self) __str__(self) __contains__ __eq__""",
+    },
 }
-ALONE = ("Policy", "Store")
+ALONE = ("Policy", "Store", "Workspace", "Shell")
 
 
 def listed(text):

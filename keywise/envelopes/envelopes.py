@@ -1,9 +1,9 @@
 """Envelopes: the least rules around a rule that some policies keep."""
 
-from keywise.errors import InvalidPolicy, InvalidRow, TooLarge
+from keywise.errors import InvalidPolicy, TooLarge
 from keywise.policies.merges import members, merges_into, set_of
 from keywise.policies.policies import Policy, are_rows, is_too_many
-from keywise.rules.rules import check_rule, is_between, is_pair, is_row, is_rule, row_number, row_with
+from keywise.rules.rules import check_row, check_rule, is_between, is_pair, is_row, is_rule, row_number, row_with
 
 MAX_MERGES = 20000
 
@@ -20,12 +20,6 @@ def check_request(rule, policies):
     check_rule(rule)
     if not are_policies(rule[0], policies):
         raise InvalidPolicy("not a tuple of policies of the size of the rule")
-
-
-def check_row(size, row):
-    """Raise the error for a row of the size that is none."""
-    if not is_row(size, row):
-        raise InvalidRow(f"not a row of the size {size}")
 
 
 def most_replicas(policies):

@@ -109,6 +109,12 @@ def check_key(size, key):
     check_between(0, size - 1, key)
 
 
+def check_row(size, row):
+    """Raise the error for a row of the size that is none."""
+    if not is_row(size, row):
+        raise InvalidRow(f"not a row of the size {size}")
+
+
 def check_partial(size, partial):
     """Raise the error for a partial row of the size that is none."""
     if not is_partial(size, partial):

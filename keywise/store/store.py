@@ -4,8 +4,8 @@ from keywise.errors import Broken, InvalidMessage, InvalidNumber, InvalidOperati
 from keywise.errors import KeywiseError, Refused
 from keywise.patterns.patterns import pattern_within
 from keywise.policies.policies import check_policy_of
-from keywise.rules.rules import are_literals, check_between, check_rule, is_between, is_one_of, is_pair, is_partial
-from keywise.rules.rules import is_row, is_valid
+from keywise.rules.rules import are_literals, check_between, check_row, check_rule, is_between, is_one_of, is_pair
+from keywise.rules.rules import is_partial, is_row, is_valid
 from keywise.store.undoing import check_many
 
 
@@ -165,6 +165,12 @@ class Store:
             self._perform(self._undone.pop())
         return len(self._log)
 
+    def twin(self):
+        """Return an independent store that is equal to this one."""
+        made = Store(self._rule, self._policy, self._rows[0][0])
+        made.apply_all(*self._log)
+        return made
+
     def _check_replica(self, replica):
         check_between(0, len(self._rows) - 1, replica)
 
@@ -201,8 +207,7 @@ class Store:
     def _write(self, replica, row):
         self._check_replica(replica)
         size, rows = self._rule
-        if not is_row(size, row):
-            raise InvalidRow(f"not a row of the size {size}")
+        check_row(size, row)
         if row not in rows:
             raise Refused(pattern_within(self._rule, tuple(enumerate(row))))
         known = self._states[-1][replica]

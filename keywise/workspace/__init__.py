@@ -1,0 +1,1 @@
+"""Workspaces: rules that are edited while policies are watched."""
