@@ -165,6 +165,29 @@ class Finding(unittest.TestCase):
         self.assertEqual(next(thresholds(FREE_7, 6)), (1,) * 7)
         self.assertEqual(count_thresholds(FREE_7, 4), 4 ** 7)
 
+    def test_counts_are_those_of_the_listed_ones(self):
+        chance = random.Random(8)
+        every = brute_rules(1) + brute_rules(2) + brute_rules(3) + counted_rules(7)[::6]
+        every += [(7, tuple(sorted(chance.sample(FREE_7[1], 128 - many)))) for many in (0, 1, 1, 2, 3, 5, 8, 13)]
+        for rule in every:
+            for n in (2, 3, 4):
+                if rule == FREE_7 and n == 4:
+                    self.assertEqual(repr(count_thresholds(rule, n)), "16384")
+                    continue
+                self.assertEqual(repr(count_thresholds(rule, n)), repr(len(list(thresholds(rule, n)))), (rule, n))
+                keys = sorted(chance.sample(range(rule[0]), chance.randrange(rule[0] + 1)))
+                given = tuple((key, chance.randrange(1, n + 1)) for key in keys)
+                listed = list(thresholds(rule, n, given=given))
+                self.assertEqual(count_thresholds(rule, n, given=given), len(listed), (rule, n, given))
+
+    def test_counts_near_the_limit(self):
+        for size, n in ((7, 4), (6, 5), (5, 6), (4, 6)):
+            free = (size, tuple(brute_rows(size)))
+            self.assertEqual(count_thresholds(free, n), n ** size)
+            for rule in [(size, free[1][1:]), (size, free[1][:-2])] + sample_rules(size, 4, 65):
+                expected = sum(1 for _ in thresholds(rule, n))
+                self.assertEqual(count_thresholds(rule, n), expected)
+
     def test_given_numbers(self):
         chance = random.Random(4)
         for rule in [IMPLY, ONE, ATMOST, EVEN] + MIDDLE[:6] + SMALL[::6]:

@@ -1,6 +1,7 @@
 """Threshold policies: a key becomes 1 if enough replicas have 1."""
 
 from keywise.errors import InvalidNumber, InvalidPolicy, TooLarge
+from keywise.levels.counting import count_light
 from keywise.levels.ratios import fraction
 from keywise.patterns.patterns import check_pattern, pattern_rows, patterns
 from keywise.policies.policies import MAX_MERGES, Policy, check_odd_replicas, check_replicas, counting_function
@@ -158,9 +159,10 @@ def thresholds(rule, replicas, *, given=()):
 def count_thresholds(rule, replicas, *, given=()):
     """Return how many threshold policies keep the rule and have the given numbers."""
     check_request(rule, replicas, given)
-    if is_too_many(replicas, rule[0]):
+    size, _ = rule
+    if is_too_many(replicas, size):
         raise TooLarge(MAX_MERGES)
-    return len(list(thresholds(rule, replicas, given=given)))
+    return count_light(size, replicas, patterns(rule), given)
 
 
 def heaviest_pattern(rule, policy):
