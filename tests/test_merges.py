@@ -44,7 +44,10 @@ class Merges(unittest.TestCase):
             for n, most in ((2, 40), (3, 12), (4, 6), (5, 4), (6, 3)):
                 functions = tuple(random_function(chance, n) for _ in range(size))
                 options = []
-                for _ in range(n):
+                # Sometimes one replica has several rows to choose from, and sometimes none.
+                few = chance.randrange(4)
+                for at in range(n):
+                    most = 2 if few == 0 or (few == 1 and at != n // 2) else most
                     options.append(chance.sample(range(1 << size), min(chance.randrange(1, most), 1 << size)))
                 wanted = [row for row in range(1 << size) if chance.random() < 0.7]
                 every = {merged(functions, rows) for rows in product(*options)}

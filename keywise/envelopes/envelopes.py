@@ -6,6 +6,8 @@ from keywise.policies.policies import Policy, are_rows, is_too_many
 from keywise.rules.rules import check_row, check_rule, is_between, is_pair, is_row, is_rule, row_number, row_with
 
 MAX_MERGES = 20000
+# The set of all rows of all sizes.
+EVERY_ROW = -1
 
 
 def are_policies(size, value):
@@ -27,16 +29,18 @@ def most_replicas(policies):
     return max([policy.replicas for policy in policies], default=1)
 
 
-def new_merges(policies, known):
-    """Return a dict from the rows that come of the known ones, and are not known, to the steps by which they do.
+def new_merges(policies, known, wanted):
+    """Return a dict from the wanted rows that come of the known ones, and are not known, to the steps by which they do.
 
-    Here as below, rows are numbers and the known rows are a set of them, as merges_into has them.
+    Here as below, rows are numbers, and known and wanted ones are sets of them, as merges_into has them.
     """
     found = {}
     numbers = members(known)
     for at, policy in enumerate(policies):
-        wanted = ~(known | set_of(found))
-        for number, sources in merges_into(policy.functions, [numbers] * policy.replicas, wanted).items():
+        left = wanted & ~(known | set_of(found))
+        if left == 0:
+            break
+        for number, sources in merges_into(policy.functions, [numbers] * policy.replicas, left).items():
             found[number] = (number, at, sources)
     return found
 
@@ -49,7 +53,7 @@ def rounds_of_steps(rule, policies):
     while True:
         if is_too_many(len(members(known)), most):
             raise TooLarge(MAX_MERGES)
-        new = new_merges(policies, known)
+        new = new_merges(policies, known, EVERY_ROW)
         if not new:
             return found
         found.append(new)
@@ -159,9 +163,12 @@ def is_step(size, policies, known, value):
 def is_derivable(policies, known, row):
     """Return whether the row comes of the known rows, which it is not among, by merging again and again."""
     while True:
-        new = new_merges(policies, known)
-        if row in new or not new:
-            return row in new
+        # To look for this row alone is faster, and most rows that can be left out are found so.
+        if new_merges(policies, known, 1 << row):
+            return True
+        new = new_merges(policies, known, EVERY_ROW)
+        if not new:
+            return False
         known |= set_of(new)
 
 
@@ -170,9 +177,11 @@ def thinned(rule, policies):
     check_request(rule, policies)
     rounds_of_steps(rule, policies)
     size, rows = rule
+    # A copy makes no row that was not there.
+    making = [policy for policy in policies if policy.copied() is None]
     left = set_of([row_number(row) for row in rows])
     for row in rows:
         others = left & ~(1 << row_number(row))
-        if is_derivable(policies, others, row_number(row)):
+        if is_derivable(making, others, row_number(row)):
             left = others
     return (size, tuple(sorted([row_with(size, number) for number in members(left)])))

@@ -40,11 +40,15 @@ def left_by(results, row):
     return tuple([(low & ~row) | (high & row) for low, high in zip(results[:half], results[half:])])
 
 
-def begun_merges(results, options):
-    """Return a dict from what is left to the last replica to rows of the other ones that leave it.
+def left_at(results, place, row):
+    """Return what is left to the other replicas if the one at this place has this row."""
+    step = len(results) >> (place + 1)
+    without = [at for at in range(len(results)) if at & step == 0]
+    return tuple([(results[at] & ~row) | (results[at + step] & row) for at in without])
 
-    The options are, for each replica, a list of the rows that it can have.
-    """
+
+def begun_merges(results, options):
+    """Return a dict from what is left to the last replica to rows of the other ones that leave it."""
     left = {results: ()}
     for rows in options[:-1]:
         left = {left_by(now, row): begun + (row,) for now, begun in left.items() for row in rows}
@@ -67,11 +71,31 @@ def image(low, high, size, rows):
 
 
 def merges_into(functions, options, wanted):
-    """Return a dict from the rows of the wanted set that come of the options to rows that are merged into them."""
+    """Return a dict from the rows of the wanted set that come of the options to rows that are merged into them.
+
+    The options are, for each replica, a list of the rows that it can have.
+    """
+    results = results_of(functions)
+    # There are fewer ways to go if the replicas with only one row have it from the beginning.
+    free = [place for place, rows in enumerate(options) if len(rows) > 1] or [0]
+    for place in range(len(options) - 1, -1, -1):
+        if place not in free:
+            results = left_at(results, place, options[place][0])
+    found = {}
+    for merged, rows in free_merges(len(functions), results, [options[place] for place in free], wanted).items():
+        taken = dict(zip(free, rows))
+        found[merged] = tuple([taken.get(place, each[0]) for place, each in enumerate(options)])
+    return found
+
+
+def free_merges(size, results, options, wanted):
+    """Return the same for what a policy of the size does."""
     found = {}
     last = set_of(options[-1])
-    for (low, high), begun in begun_merges(results_of(functions), options).items():
-        new = image(low, high, len(functions), last) & wanted
+    for (low, high), begun in begun_merges(results, options).items():
+        if wanted == 0:
+            break
+        new = image(low, high, size, last) & wanted
         if new == 0:
             continue
         wanted &= ~new
