@@ -39,6 +39,8 @@ STATEMENTS = (
     ast.Assert, ast.Delete, ast.Nonlocal, ast.Try, ast.Expr, ast.FunctionDef, ast.ClassDef, ast.ImportFrom,
 )
 TAKES_A_LIST = ("any", "all", "min", "max", "sum", "sorted")
+TAKEN_AWAY = "^(_cold|_tuplegetter|_outside|_record|_written_out|_member_names)[0-9_]*$"
+MAY_CHANGE = ("__init__", "__call__", "__enter__", "__exit__", "__iter__")
 
 
 def sources():
@@ -80,6 +82,16 @@ def bound(function):
     names = [part.arg for part in ast.walk(function) if isinstance(part, ast.arg)]
     names += [part.id for part in ast.walk(function) if isinstance(part, ast.Name) and isinstance(part.ctx, ast.Store)]
     return names + [part.name for part in ast.walk(function) if isinstance(part, ast.FunctionDef) and part != function]
+
+
+def name_of(node):
+    """Return the name that stands in a node of the source, or None."""
+    found = [getattr(node, field, None) for field in ("id", "attr", "arg", "name")]
+    return next((name for name in found if name is not None), None)
+
+
+def is_property(function):
+    return any(ast.unparse(decorator) == "property" for decorator in function.decorator_list)
 
 
 class Language(unittest.TestCase):
@@ -262,13 +274,64 @@ class Language(unittest.TestCase):
             for node in ast.walk(tree):
                 if isinstance(node, ast.Name) and node.id in ALL_BUILTINS and node.id not in known:
                     self.assertIn(node.id, BUILTINS, f"{path}:{node.lineno}")
-        for where, node in self.nodes(ast.Name, ast.Attribute, ast.arg, ast.keyword):
-            name = getattr(node, "id", None) or getattr(node, "attr", None) or getattr(node, "arg", None)
+        kinds = (ast.Name, ast.Attribute, ast.arg, ast.keyword, ast.FunctionDef, ast.ClassDef, ast.alias)
+        for where, node in self.nodes(*kinds):
+            name = name_of(node)
+            if name is None or isinstance(node, ast.FunctionDef) and name[2:-2] in DUNDERS:
+                continue
             if name == "__init__" and ast.unparse(node) == "super().__init__":
                 continue
             self.assertRegex(name, "^(_?[A-Za-z][A-Za-z0-9_]*|_)$", where)
             self.assertFalse(name in UNUSED and not isinstance(node, ast.Attribute), where)
             self.assertNotRegex(name, "^_(wall|pe_|dcw_|enum_|cm_|twin_re_|lay_|law_|stub_|sre)", where)
+            self.assertNotRegex(name, TAKEN_AWAY, where)
+
+    def test_names_of_methods_and_values(self):
+        """L5, L18"""
+        for where, node in self.nodes(ast.Attribute):
+            if isinstance(node.ctx, ast.Store):
+                self.assertNotIn(node.attr, self.own_methods, where)
+        methods = [(node.name, bool(node.decorator_list)) for _, node in self.methods()]
+        for name in [name for name, decorated in methods if decorated]:
+            self.assertNotIn((name, False), methods)
+            self.assertNotIn(name, METHODS)
+
+    def methods(self):
+        """Yield all methods with the names of their classes."""
+        for _, owner in self.nodes(ast.ClassDef):
+            for node in owner.body:
+                if isinstance(node, ast.FunctionDef):
+                    yield owner.name, node
+
+    def bodies(self):
+        """Return a dict from the names of functions, methods and classes to what calls of such names run."""
+        found = {}
+        for _, node in self.nodes(ast.FunctionDef):
+            found.setdefault(node.name, []).append(node)
+        for owner, node in self.methods():
+            if node.name == "__init__":
+                found.setdefault(owner, []).append(node)
+        return found
+
+    def test_what_operators_and_properties_run(self):
+        """L5, L28: by their names, these call no value that they are passed or hold, and change no object."""
+        stored = {node.attr for _, node in self.nodes(ast.Attribute) if isinstance(node.ctx, ast.Store)}
+        begun = [node for _, node in self.methods() if is_property(node) or node.name.startswith("__")]
+        waiting = [node for node in begun if node.name not in MAY_CHANGE]
+        self.assertGreater(len(waiting), 40)
+        bodies = self.bodies()
+        seen = []
+        while waiting:
+            node = waiting.pop()
+            seen.append(node)
+            names = {name_of(part.func) for part in ast.walk(node) if isinstance(part, ast.Call)}
+            self.assertFalse(names & (set(bound(node)) | stored | {None}), node.name)
+            for part in ast.walk(node):
+                changed = isinstance(part, ast.Attribute) and not isinstance(part.ctx, ast.Load)
+                self.assertFalse(changed and node.name != "__init__", node.name)
+                self.assertNotIsInstance(part, ast.AugAssign, node.name)
+            run = [body for name in names for body in bodies.get(name, [])]
+            waiting += [body for body in run if body not in seen]
 
     def test_words(self):
         """L5, L17, L27"""

@@ -198,7 +198,7 @@ class Store:
         """Return the messages of all replicas."""
         return [self._message(known) for known in self._states[-1]]
 
-    def _record(self, operation, changed):
+    def _put_into_log(self, operation, changed):
         """Put the operation into the log, with a dict from the changed replicas to the versions that they know now."""
         state = self._states[-1]
         self._states.append(tuple([changed.get(replica, known) for replica, known in enumerate(state)]))
@@ -213,14 +213,14 @@ class Store:
         known = self._states[-1][replica]
         version = len(self._rows[replica])
         self._rows[replica].append(row)
-        self._record(("write", replica, row), {replica: known[:replica] + (version,) + known[replica + 1:]})
+        self._put_into_log(("write", replica, row), {replica: known[:replica] + (version,) + known[replica + 1:]})
 
     def _deliver(self, replica, message):
         self._check_replica(replica)
         if not self.is_message(message):
             raise InvalidMessage("not a message of the store")
         told = tuple([version for version, _ in message])
-        self._record(("deliver", replica, message), {replica: newest([self._states[-1][replica], told])})
+        self._put_into_log(("deliver", replica, message), {replica: newest([self._states[-1][replica], told])})
 
     def _exchange(self, replicas):
         for replica in replicas:
@@ -228,7 +228,7 @@ class Store:
         if not replicas or len(set(replicas)) < len(replicas):
             raise InvalidOperation("no replicas, or one of them twice")
         known = newest([self._states[-1][replica] for replica in replicas])
-        self._record(("exchange", replicas), {replica: known for replica in replicas})
+        self._put_into_log(("exchange", replicas), {replica: known for replica in replicas})
 
     def _perform(self, operation):
         """Perform an operation that has the form of one."""

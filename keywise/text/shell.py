@@ -14,7 +14,7 @@ class Shell:
         self._workspace = Workspace(rule)
         self._store = None
         # The messages that were sent since the store was opened.
-        self._messages = []
+        self._sent = []
         self._answers = []
 
     def run(self, line):
@@ -51,7 +51,7 @@ class Shell:
     def __eq__(self, other):
         if not isinstance(other, Shell) or self._workspace != other._workspace or self._store != other._store:
             return False
-        return self._messages == other._messages and len(self._answers) == len(other._answers)
+        return self._sent == other._sent and len(self._answers) == len(other._answers)
 
     def _carry_out(self, word, values):
         """Carry out the command with this word for these values, and return its answer."""
@@ -73,20 +73,20 @@ class Shell:
 
     def _begin_store(self, row, policy):
         self._store = Store(self._workspace.rule, policy, row)
-        self._messages = []
+        self._sent = []
         return "ok"
 
     def _end_store(self):
         self._store = None
-        self._messages = []
+        self._sent = []
         return "ok"
 
     def _send(self, replica):
-        self._messages.append(self._store.outgoing(replica))
-        return str(len(self._messages) - 1)
+        self._sent.append(self._store.outgoing(replica))
+        return str(len(self._sent) - 1)
 
     def _deliver(self, number, replica):
-        if not is_between(0, len(self._messages) - 1, number):
+        if not is_between(0, len(self._sent) - 1, number):
             raise InvalidNumber(number)
-        newer = self._store.deliver(replica, self._messages[number])
+        newer = self._store.deliver(replica, self._sent[number])
         return listed([str(other) for other in newer], " ")
